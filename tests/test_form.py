@@ -1,0 +1,194 @@
+"""How the files of the package are written: the rules that can be asked of the code alone, and the interface."""
+
+import ast
+import builtins
+import inspect
+import importlib
+import os
+import unittest
+
+ROOT = os.path.dirname(os.path.dirname(os.path.abspath(__file__)))
+FOLDER = os.path.join(ROOT, "endsahead")
+
+# In the order in which a module may use those above it.
+INTERFACE = {
+    "errors": {
+        "EndError": None, "NoAnswer": "place", "NoCommand": "line", "NoEnding": "", "NoTree": "index",
+        "NoWord": "place", "Nothing": "", "TooLong": "most", "TooMany": "most", "Wrong": "place",
+    },
+    "words": {
+        "sort_of_word": "thing", "is_row": "thing", "cut": "text", "show": "row", "number_word": "integer",
+        "fresh_name": "names", "number_of": "word",
+    },
+    "forms": {"is_integer": "thing", "is_name": "thing", "is_kind": "thing", "is_lot": "thing"},
+}
+
+BUILTINS = (
+    "len range enumerate zip min max sum abs sorted reversed int str bool list tuple dict set isinstance ord repr any "
+    "all divmod ValueError KeyError NotImplemented"
+).split()
+METHODS = (
+    "append clear copy count endswith extend find get index insert isalnum isalpha isdigit islower isspace isupper "
+    "items join keys ljust lower lstrip partition pop remove replace reverse rfind rjust rpartition rsplit rstrip "
+    "setdefault split splitlines startswith strip update upper values zfill bit_length add discard"
+).split()
+BARRED_NAMES = "register mro elements open input law version_info with_traceback add_note".split()
+BARRED_WORDS = (
+    "type typing typing_extensions enum Enum Flag Generic Protocol ABC namedtuple NamedTuple TypedDict abstractmethod"
+).split()
+# No generators: a package with a class that compares must hand lists to all, any, sorted and the like.
+BARRED_NODES = (
+    ast.GeneratorExp, ast.Yield, ast.YieldFrom, ast.Global, ast.AsyncFunctionDef, ast.Await, ast.Div, ast.Import,
+)
+
+
+def file_names():
+    return sorted(name for name in os.listdir(FOLDER) if name != "__pycache__")
+
+
+def text_of(name):
+    with open(os.path.join(FOLDER, name), encoding="utf-8", newline="") as file:
+        return file.read()
+
+
+def tree_of(name):
+    return ast.parse(text_of(name))
+
+
+def modules():
+    """Return the tuples (module's name, its tree) of all files that hold code."""
+    return [(name[:-3], tree_of(name)) for name in file_names() if name != "__init__.py"]
+
+
+class Form(unittest.TestCase):
+
+    def test_folder(self):
+        self.assertTrue(all(name.endswith(".py") for name in file_names()))
+        self.assertEqual(text_of("__init__.py"), "")
+
+    def test_size_and_characters(self):
+        for name in file_names():
+            lines = text_of(name).split("\n")
+            self.assertLessEqual(len(lines), 399, name)
+            for number, line in enumerate(lines, 1):
+                self.assertLessEqual(len(line), 120, (name, number))
+                self.assertTrue(all(" " <= sign <= "~" for sign in line), (name, number))
+                self.assertEqual(line, line.rstrip(), (name, number))
+
+    def test_functions_are_small_and_bare(self):
+        for name, tree in modules():
+            for node in ast.walk(tree):
+                if isinstance(node, ast.FunctionDef):
+                    self.assertLessEqual(node.end_lineno - node.lineno + 1, 40, (name, node.name))
+                    self.assertEqual(node.decorator_list, [], (name, node.name))
+                    self.assertIsNone(node.returns, (name, node.name))
+
+    def test_nothing_barred(self):
+        for name, tree in modules():
+            for node in ast.walk(tree):
+                self.assertNotIsInstance(node, BARRED_NODES, (name, getattr(node, "lineno", 0)))
+                if isinstance(node, ast.Constant) and isinstance(node.value, str):
+                    self.assertNotIn("%", node.value, name)
+                if isinstance(node, ast.Constant):
+                    self.assertNotIsInstance(node.value, (float, complex, bytes), name)
+
+    def test_imports(self):
+        order = list(INTERFACE)
+        for name, tree in modules():
+            for node in ast.walk(tree):
+                if isinstance(node, ast.ImportFrom):
+                    self.assertIn(node, tree.body, name)
+                    self.assertEqual(node.level, 0, name)
+                    package, _, used = node.module.partition(".")
+                    self.assertEqual(package, "endsahead", name)
+                    if name in order and used in order:
+                        self.assertLess(order.index(used), order.index(name), (name, used))
+                    for alias in node.names:
+                        self.assertIsNone(alias.asname, name)
+                        self.assertIn(alias.name, names_bound(tree_of(used + ".py")), (name, alias.name))
+
+    def test_each_import_is_used(self):
+        for name, tree in modules():
+            used = [node.id for node in ast.walk(tree) if isinstance(node, ast.Name)]
+            for node in tree.body:
+                if isinstance(node, ast.ImportFrom):
+                    for alias in node.names:
+                        self.assertIn(alias.name, used, name)
+
+    def test_names(self):
+        for name, tree in modules():
+            bound = names_bound(tree)
+            self.assertEqual(len(bound), len(set(bound)), name)
+            for node in ast.walk(tree):
+                for word in names_given(node):
+                    self.assertNotIn(word, vars(builtins), (name, word))
+                    self.assertNotIn(word, BARRED_NAMES + BARRED_WORDS, name)
+                    self.assertFalse(word.startswith("__") and word != "__init__", (name, word))
+                if isinstance(node, ast.Name) and isinstance(node.ctx, ast.Store):
+                    self.assertNotIn(node.id, imported(tree), name)
+
+    def test_builtins_and_methods(self):
+        own = {node.name for _, tree in modules() for node in ast.walk(tree) if isinstance(node, ast.FunctionDef)}
+        for name, tree in modules():
+            for node in ast.walk(tree):
+                if isinstance(node, ast.Name) and node.id in vars(builtins):
+                    self.assertIn(node.id, BUILTINS, name)
+                if isinstance(node, ast.Call) and isinstance(node.func, ast.Attribute):
+                    self.assertIn(node.func.attr, [*METHODS, *own], name)
+                    self.assertEqual(node.keywords, [], name)
+
+    def test_module_level_is_plain(self):
+        for name, tree in modules():
+            for node in tree.body[1:]:
+                self.assertIsInstance(node, (ast.ImportFrom, ast.FunctionDef, ast.ClassDef, ast.Assign), name)
+                if isinstance(node, ast.Assign):
+                    self.assertFalse(any(isinstance(part, ast.Call) for part in ast.walk(node)), name)
+            self.assertIsNotNone(ast.get_docstring(tree), name)
+
+
+class Interface(unittest.TestCase):
+
+    def test_defined_in_their_files(self):
+        for name, members in INTERFACE.items():
+            module = importlib.import_module("endsahead." + name)
+            defined = [node.name for node in tree_of(name + ".py").body if hasattr(node, "name")]
+            for member, parameters in members.items():
+                self.assertIn(member, defined)
+                made = getattr(module, member)
+                if inspect.isclass(made):
+                    made = made.__init__ if parameters else None
+                if made is not None:
+                    told = [one for one in inspect.signature(made).parameters if one != "self"]
+                    self.assertEqual(told, parameters.split(), member)
+
+
+def imported(tree):
+    return [alias.name for node in tree.body if isinstance(node, ast.ImportFrom) for alias in node.names]
+
+
+def names_bound(tree):
+    """Return all names that a file binds at module level."""
+    bound = imported(tree)
+    for node in tree.body:
+        if isinstance(node, (ast.FunctionDef, ast.ClassDef)):
+            bound.append(node.name)
+        elif isinstance(node, ast.Assign):
+            bound.extend(target.id for target in node.targets)
+    return bound
+
+
+def names_given(node):
+    """Return the names that a node gives to something."""
+    if isinstance(node, (ast.FunctionDef, ast.ClassDef)):
+        return [node.name]
+    if isinstance(node, ast.arg):
+        return [node.arg]
+    if isinstance(node, ast.Name) and isinstance(node.ctx, ast.Store):
+        return [node.id]
+    if isinstance(node, ast.Attribute):
+        return [node.attr] if node.attr in BARRED_NAMES else []
+    return []
+
+
+if __name__ == "__main__":
+    unittest.main()
