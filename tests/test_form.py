@@ -21,6 +21,21 @@ INTERFACE = {
         "fresh_name": "names", "number_of": "word",
     },
     "forms": {"is_integer": "thing", "is_name": "thing", "is_kind": "thing", "is_lot": "thing"},
+    "library": {
+        "sort_of": "declarations name", "choice_of": "declarations name", "kinds_in": "declarations",
+        "once_kinds": "declarations", "plain_kinds": "declarations", "fields_of": "declarations name",
+        "arms_of": "declarations name", "arm_of": "declarations name", "function_of": "declarations name",
+        "makers": "declarations", "fields_with": "declarations kind", "library_of": "declarations",
+        "is_once": "declarations kind", "is_stock": "declarations thing",
+    },
+    "trees": {
+        "is_expression": "thing", "is_statement": "thing", "is_block": "thing", "is_declaration": "thing",
+        "is_program": "thing", "parts_of": "tree", "expressions_in": "block", "blocks_of": "statement",
+    },
+    "shower": {
+        "row_of": "program", "row_of_expression": "tree level", "row_of_block": "block", "show_program": "program",
+    },
+    "reader": {"read_program": "row", "read_text": "text", "read_expression": "row", "needless": "row"},
 }
 
 BUILTINS = (
