@@ -36,6 +36,22 @@ INTERFACE = {
         "row_of": "program", "row_of_expression": "tree level", "row_of_block": "block", "show_program": "program",
     },
     "reader": {"read_program": "row", "read_text": "text", "read_expression": "row", "needless": "row"},
+    "spends": {
+        "kind_of": "declarations sight tree", "gives": "block", "names_spent": "declarations sight tree",
+        "spent_behind": "declarations sight spent block",
+    },
+    "right": {"broken": "program", "is_right": "program", "is_right_row": "row", "sights": "program index"},
+    "stocks": {
+        "is_above": "one other", "is_met": "lot stock", "added": "declarations stocks", "joined": "stocks",
+        "taken": "declarations one other", "without": "declarations one other", "stock_of": "declarations kinds",
+        "least_of": "stocks", "sums_of": "declarations lots", "joins_of": "lots",
+    },
+    "making": {
+        "rules_of": "declarations", "first_table": "declarations", "next_table": "declarations table",
+        "least_stocks": "declarations", "kind_of_shape": "declarations shape", "spent_by": "declarations shape",
+        "shape_for": "declarations kind stock", "is_shape": "declarations kind thing", "is_closed": "declarations thing",
+        "shows_none": "declarations kind stock thing",
+    },
 }
 
 BUILTINS = (
@@ -141,6 +157,34 @@ class Form(unittest.TestCase):
                     self.assertFalse(word.startswith("__") and word != "__init__", (name, word))
                 if isinstance(node, ast.Name) and isinstance(node.ctx, ast.Store):
                     self.assertNotIn(node.id, imported(tree), name)
+
+    def test_no_local_name_is_that_of_an_import_or_a_class(self):
+        for name, tree in modules():
+            kept = [*imported(tree), *[node.name for node in tree.body if isinstance(node, ast.ClassDef)]]
+            for node in ast.walk(tree):
+                if isinstance(node, ast.arg):
+                    self.assertNotIn(node.arg, kept, name)
+                if isinstance(node, ast.Name) and isinstance(node.ctx, ast.Store):
+                    self.assertNotIn(node.id, kept, name)
+
+    def test_sets_are_sorted_or_counted_at_once(self):
+        for name, tree in modules():
+            for node in ast.walk(tree):
+                for part in ast.iter_child_nodes(node):
+                    made = isinstance(part, ast.Call) and isinstance(part.func, ast.Name) and part.func.id == "set"
+                    if isinstance(part, (ast.Set, ast.SetComp)) or made:
+                        counted = isinstance(node, ast.Call) and isinstance(node.func, ast.Name) and node.func.id in ("sorted", "len")
+                        # fresh_name keeps one to ask it for members alone.
+                        self.assertTrue(counted or name == "words", (name, part.lineno))
+
+    def test_lists_and_dicts_at_module_level_are_only_read(self):
+        for name, tree in modules():
+            kept = [node.targets[0].id for node in tree.body if isinstance(node, ast.Assign) and isinstance(node.value, (ast.Dict, ast.List))]
+            for node in ast.walk(tree):
+                if isinstance(node, (ast.Starred, ast.Return)) and isinstance(node.value, ast.Name):
+                    self.assertNotIn(node.value.id, kept, name)
+                if isinstance(node, ast.Assign) and isinstance(node.value, ast.Name):
+                    self.assertNotIn(node.value.id, kept, name)
 
     def test_builtins_and_methods(self):
         own = {node.name for _, tree in modules() for node in ast.walk(tree) if isinstance(node, ast.FunctionDef)}
