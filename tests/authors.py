@@ -37,6 +37,21 @@ def chance_library(seed, most=5, functions=4):
     return tuple(made)
 
 
+def rich_library(seed, kinds=6, functions=6):
+    """Return a library in which nothing comes of nothing, so that its lots and rounds are many."""
+    chance = random.Random(seed)
+    made = [("once", "o0"), ("once", "o1"), *[(word, f"p{at}") for at, word in enumerate(chance.choices(("once", "plain"), k=kinds // 3))]]
+    names = [name for _, name in made]
+    for at in range(kinds - len(made)):
+        parts = chance.choices(names, k=chance.choice((1, 2, 2, 3)))
+        word = chance.choice(("record", "choice"))
+        made.append((word, f"r{at}", tuple((f"x{at}y{many}", part) for many, part in enumerate(parts))))
+        names.append(f"r{at}")
+    for at in range(functions):
+        made.append(("given", f"g{at}", tuple(chance.choices(names, k=chance.choice((1, 2, 2)))), chance.choice(names)))
+    return tuple(made)
+
+
 class Author:
     """Writes the block of one function."""
 

@@ -52,6 +52,22 @@ INTERFACE = {
         "shape_for": "declarations kind stock", "is_shape": "declarations kind thing", "is_closed": "declarations thing",
         "shows_none": "declarations kind stock thing",
     },
+    "blocks": {
+        "next_lot": "declarations ex lot", "block_stocks": "declarations kind", "rounds_many": "declarations kind",
+        "plan_for": "declarations kind stock", "is_plan": "declarations kind stock thing",
+        "is_closed_for": "declarations kind ex thing", "shows_no_plan": "declarations kind stock ex thing",
+    },
+    "writing": {
+        "names_stock": "declarations names", "written": "declarations shape names", "new_names": "seen many",
+        "written_plan": "declarations plan names seen",
+    },
+    # No part of the interface: what stands and demands need.
+    "standing": {},
+    "stands": {
+        "can_be_read": "row", "first_unread": "row", "function_at": "row", "names_at": "row", "stock_at": "row",
+        "kinds_to_come": "row",
+    },
+    "demands": {"demands": "row", "is_met": "row demand"},
 }
 
 BUILTINS = (
@@ -132,8 +148,7 @@ class Form(unittest.TestCase):
                     self.assertEqual(node.level, 0, name)
                     package, _, used = node.module.partition(".")
                     self.assertEqual(package, "endsahead", name)
-                    if name in order and used in order:
-                        self.assertLess(order.index(used), order.index(name), (name, used))
+                    self.assertLess(order.index(used), order.index(name), (name, used))
                     for alias in node.names:
                         self.assertIsNone(alias.asname, name)
                         self.assertIn(alias.name, names_bound(tree_of(used + ".py")), (name, alias.name))

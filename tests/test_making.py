@@ -9,7 +9,7 @@ from endsahead.making import (
     first_table, is_closed, is_shape, kind_of_shape, least_stocks, next_table, rules_of, shape_for, shapes_within, shows_none, spent_by,
 )
 from endsahead.stocks import is_above, is_met
-from authors import chance_library, right_program
+from authors import chance_library, rich_library, right_program
 from libraries import ASK, KNOW, MANY, TWO, library_with
 from samples import ALL, odd_values
 
@@ -105,7 +105,7 @@ class Tables(unittest.TestCase):
 
     def test_the_slow_way(self):
         for seed in range(250):
-            declarations = chance_library(seed, 7, 8)
+            declarations = chance_library(seed, 7, 8) if seed % 2 else rich_library(seed)
             wanted = slow.tables(declarations)
             table = first_table(declarations)
             for told in wanted:
@@ -242,7 +242,7 @@ class ShapeFor(unittest.TestCase):
 
     def test_just_where_a_least_stock_is_met(self):
         for seed in range(120):
-            declarations = chance_library(seed, 5, 6)
+            declarations = rich_library(seed) if seed % 4 == 0 else chance_library(seed, 5, 6)
             ex = least_stocks(declarations)
             stocks = [(), *chance_stocks(declarations, 6), *ex[kinds_in(declarations)[0]]]
             for kind in ex:
@@ -257,7 +257,7 @@ class ShapeFor(unittest.TestCase):
 
     def test_each_member_is_spent_just_so(self):
         for seed in range(60):
-            declarations = chance_library(seed, 6, 6)
+            declarations = rich_library(seed)
             ex = least_stocks(declarations)
             for kind in ex:
                 for member in ex[kind]:
@@ -315,7 +315,7 @@ class Closed(unittest.TestCase):
 
     def test_all_rounds_but_the_last_one_are_open(self):
         for seed in range(80):
-            declarations = chance_library(seed, 6, 6)
+            declarations = rich_library(seed)
             tables = slow.tables(declarations)
             self.assertEqual([is_closed(declarations, table) for table in tables], [False] * (len(tables) - 1) + [True])
 
