@@ -4,8 +4,7 @@ from endsahead.blocks import block_stocks, steps_of
 from endsahead.making import least_stocks
 from endsahead.standing import have_all_given, spent_behind_all
 from endsahead.stands import kinds_awaited, stand_at, stock_there
-from endsahead.stocks import added, is_above, stock_of, sums_of, taken
-
+from endsahead.stocks import added, is_above, stock_of, sums_within, taken
 
 # What stands behind the word with which a statement begins, if its E is told by the sort of it.
 SORTS_OPENED = {"open": "record", "match": "choice"}
@@ -81,19 +80,9 @@ def _ways_on(stand, ex, stock):
     told = stand.statement
     if told.kind is not None:
         lots = [ex[kind] for kind in kinds_awaited(stand)]
-        return [(told.kind, spent) for spent in _sums_within(stand.declarations, lots, stock)]
+        return [(told.kind, spent) for spent in sums_within(stand.declarations, lots, stock)]
     kinds = [declared[1] for declared in stand.declarations if declared[0] == SORTS_OPENED[told.word]]
     return [(kind, spent) for kind in kinds for spent in ex[kind] if is_above(stock, spent)]
-
-
-def _sums_within(declarations, lots, stock):
-    """Return those of the least sums of one member of each lot which a stock is at or above."""
-    found = ((),)
-    for lot in lots:
-        # Only what a stock is at or above leads to sums which it is at or above: so there are never very many.
-        low = [member for member in lot if is_above(stock, member)]
-        found = [total for total in sums_of(declarations, [found, low]) if is_above(stock, total)]
-    return found
 
 
 def _finishes_of(declarations, word, kind, left):

@@ -187,12 +187,13 @@ class Way:
         elif not gives(blocks_of(statement)[at]):
             self.behind_blocks[-1].append(self.spent)
 
-    def go_behind(self, statement):
-        """Go behind a statement and all its blocks."""
+    def go_behind(self):
+        """Go behind the innermost statement and all its blocks: what some block that does not give has spent is spent.
+
+        What is spent behind the E is spent behind each block, too; so an if without other needs nothing of its own.
+        """
         ways = self.behind_blocks.pop()
         ahead = self.behind_e.pop()
-        if statement[0] == "if" and statement[3] is None:
-            ways.append(ahead)
         self.spent = {name: True for way in ways or [ahead] for name in way}
 
 
@@ -205,7 +206,7 @@ def spent_behind(declarations, sight, spent, block):
         elif place == "end":
             way.end(statement, at)
         elif place == "behind":
-            way.go_behind(statement)
+            way.go_behind()
         elif not way.spend(expression_of(statement)):
             return None
         elif statement[0] in BRANCHING:

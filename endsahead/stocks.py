@@ -64,6 +64,12 @@ def sums_of(declarations, lots):
     return scale.stocks_of(scale.least(scale.sums([scale.numbers_of(lot) for lot in lots], [])))
 
 
+def sums_within(declarations, lots, stock):
+    """Return those of the least sums of one member of each lot which a stock is at or above."""
+    scale = Scale(once_kinds(declarations), [*lots, [stock]], len(lots))
+    return scale.stocks_of(scale.sums_within([scale.numbers_of(lot) for lot in lots], scale.number_of(stock)))
+
+
 def joins_of(lots):
     """Return the least ones of all that come by joining one member of each lot."""
     scale = Scale((), lots, 1)
@@ -93,11 +99,12 @@ class Scale:
         """Prepare for stocks of some lots, and for all that comes by adding up at most so many of them."""
         self.kinds = sorted({kind for stocks in lots for stock in stocks for kind, _ in stock})
         counts = [count for stocks in lots for stock in stocks for _, count in stock]
-        self.width = (max([1, *counts]) * max(most, 1)).bit_length() + 1
+        # So wide that a part could hold all counts of a stock together.
+        self.width = (max([1, *counts]) * max(most, 1) * max(len(self.kinds), 1)).bit_length() + 1
         self.places = {kind: at * self.width for at, kind in enumerate(self.kinds)}
+        self.part = (1 << self.width) - 1
         self.guards = sum([1 << (place + self.width - 1) for place in list(self.places.values())])
-        part = (1 << self.width) - 1
-        self.once_parts = sum([part << self.places[kind] for kind in self.kinds if kind in once])
+        self.once_parts = sum([self.part << self.places[kind] for kind in self.kinds if kind in once])
 
     def number_of(self, stock):
         """Return the number of a stock."""
@@ -109,8 +116,7 @@ class Scale:
 
     def stock_of_number(self, number):
         """Return the stock of a number."""
-        part = (1 << self.width) - 1
-        return _stock_from({kind: (number >> self.places[kind]) & part for kind in self.kinds})
+        return _stock_from({kind: (number >> self.places[kind]) & self.part for kind in self.kinds})
 
     def stocks_of(self, numbers):
         """Return the lot of the stocks of numbers."""
@@ -145,14 +151,20 @@ class Scale:
 
     def least_few(self, numbers, most):
         """Return the list of the least ones of numbers, which may be at most so many."""
-        found = []
-        # What is at or above another number is the greater one: so what is found stays found.
-        for number in sorted(set(numbers)):
-            if not self.is_met(found, number):
+        found, lower, size = [], [], 0
+        # What is at or above another number counts more in all: so it comes later, and what is found stays found.
+        for total, number in sorted([(self.total_of(number), number) for number in sorted(set(numbers))]):
+            if total > size:
+                lower, size = list(found), total
+            if not self.is_met(lower, number):
                 found.append(number)
                 if most is not None and len(found) > most:
                     raise TooMany(most)
         return found
+
+    def total_of(self, number):
+        """Return all counts of a number together: the sum of its parts, as that of digits by casting out nines."""
+        return number % self.part
 
     def not_met(self, lot, numbers):
         """Return the list of those numbers that are at or above none of a lot."""
@@ -165,6 +177,16 @@ class Scale:
             # What is at or above one of low stays so, whatever is added.
             pairs = sorted({self.added(one, other) for one in self.least(found) for other in lot})
             found = self.not_met(low, pairs)
+        return found
+
+    def sums_within(self, lots, high):
+        """Return the least ones of those sums of one number of each lot that a number is at or above."""
+        found = [0]
+        for lot in lots:
+            # What a sum is made of is not greater than the sum.
+            parts = [number for number in lot if self.is_met([number], high)]
+            pairs = sorted({self.added(one, other) for one in found for other in parts})
+            found = self.least([number for number in pairs if self.is_met([number], high)])
         return found
 
     def joins(self, lots, low):

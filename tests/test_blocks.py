@@ -218,6 +218,10 @@ class Plans(unittest.TestCase):
         self.assertIs(is_plan(KNOW, "q", KK, right), True)
         for thing in [*things, *odd_values()]:
             self.assertIs(is_plan(KNOW, "q", (("k", 9),), thing), False, thing)
+        enough = (("k", 9), ("p", 1), ("q", 1))
+        self.assertIs(is_plan(KNOW, "q", enough, ("give", use)), True)
+        for thing in [("gives", use), ("take", use), ("let", use), (["give"], use), ("give", [*use]), ["give", use]]:
+            self.assertIs(is_plan(KNOW, "q", enough, thing), False, thing)
 
     def test_any_value_in_a_match(self):
         give = ("give", ("take", "k"))

@@ -187,6 +187,15 @@ class Finishes(unittest.TestCase):
         self.assertEqual(found, (demand(["q"]),))
 
 
+    def test_very_many_alternatives(self):
+        kinds = "abcdef"
+        head = "".join(f"once {kind}; " for kind in kinds) + "plain q; " + "".join(f"given m{kind}({kind}): a; " for kind in "bcdef") + "given f(q, a, a): q; "
+        parameters = ", ".join(f"{kind}{at}: {kind}" for kind in kinds for at in range(4))
+        found = demands(cut(head + f"def g({parameters}, s: q): q {{ let t: q =" + " f (" * 10))
+        self.assertEqual([len(found), len(found[0]), len(set(found[0]))], [1, 126, 126])
+        self.assertTrue(all(sum(count for kind, count in one[0] if kind != "q") == 4 for one in found[0]))
+
+
 class Others(unittest.TestCase):
 
     def test_first_blocks_that_gave_and_that_did_not(self):

@@ -214,7 +214,7 @@ class Shapes(unittest.TestCase):
             ("arm", "none", ()), ("arm", "none", num), ("arm", "none"), ("arm", "one", None), ("arm", "one", tok), ("arm", "one", (("take", "pair"),)), ("arm", "some", None),
             ("arm", "q", None), ("arm", ["none"], None), ("field", ("take", "pair"), "sure"), ("field", tok, "left"), ("field", ("take", "pair")), ("field", "left", ("take", "pair")),
             ("field", ("take", "pair"), ["left"]), ("field", ("take", "pair"), None), ("field", None, "left"), ("field", "pair", "left"), ("field", ("take", "some"), "none"),
-            ("field", ("field", ("take", "pair"), "left"), "left"), ("name", "t"), ("give", num), (), ("call",), ("let", "tok", tok, num), (("take", "tok"),), ("Take", "tok"),
+            ("field", ("field", ("take", "pair"), "left"), "left"), ("name", "t"), ("give", num), (), ("call",), ("let", "tok", tok, num), (("take", "tok"),), ("Take", "tok"), ("parts", "pair", (tok, num)), ("give", "mint", (ink, num)), ("field", "pair", (tok, num)), ("arms", "none", None),
             ("field", ("record", "pair", (tok, tok)), "right"), ("arm", "one", ("record", "pair", (("call", "mint", (ink, ink)), num))),
         ]
         for thing in [*things, *odd_values()]:
@@ -306,6 +306,12 @@ class Closed(unittest.TestCase):
             self.assertIs(is_closed(TWO, thing), False, thing)
             for kind in ("num", "q"):
                 self.assertIs(shows_none(TWO, kind, (), thing), False, thing)
+
+    def test_one_of_each_kind(self):
+        ex = least_stocks(KNOW)
+        for change in ({"k": ()}, {"k": ((("k", 2),),)}, {"k": (), "p": ((("p", 1),),)}):
+            self.assertIs(is_closed(KNOW, {**ex, **change}), False, change)
+        self.assertIs(is_closed(KNOW, {**ex, "k": ((),), "p": ((),), "q": ((),)}), True)
 
     def test_tables_with_great_counts(self):
         ex = least_stocks(KNOW)

@@ -177,6 +177,10 @@ class Many(unittest.TestCase):
     def test_deep_within(self):
         self.assertEqual(rule_of_block("let a: num = 1 + (2 + use(mint(i)));"), "many")
 
+    def test_names_of_an_open_with_too_many_can_be_seen(self):
+        self.assertEqual(rule_of_block("open pair { a, c, d } = p; let e: num = d;"), "many")
+        self.assertEqual(rule_of_block("open pair { a, c, d } = p; let e: num = h;"), "unknown")
+
 
 class Arms(unittest.TestCase):
 

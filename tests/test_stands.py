@@ -210,7 +210,7 @@ class Expressions(unittest.TestCase):
             "give ( 1": "+ )", "give ( 1 )": "+ ;", "give ( 1 + 2": "+ )", "give ( p": ") .", "give ( p )": ".", "give ( p . right )": "+ ;", "give ( p ) . right": "+ ;", "if ( 1": "+ < )", "if ( 1 )": "+ <",
             "if ( 1 ) < 2": "+ and {", "if ( 1 < 2 )": "and {", "if ( 1 < 2": "+ and )", "if ( b": "and )", "if ( b )": "and {", "if ( b and b )": "and {", "if ( 1 + 2 )": "+ <", "if ( p": ". )", "if ( p )": ".",
             "if ( p . right": "+ < )", "if ( p . right )": "+ <", "if 1 < ( 2": "+ )", "if 1 < ( 2 )": "+ and {", "let x : tok = ( t": ")", "let x : tok = ( t )": ";", "let x : tok = ( p )": ".", "let x : tok = ( p": ". )",
-            "if ( ( 1 ) + 2": "+ < )", "if ( b and 1": "+ <", "if ( b and 1 )": "", "give ( 1 + p )": "", "give ( ( 1": "+ )", "give ( ( 1 ) ) + ( 2": "+ )", "if ( ( r ) . near )": ".", "if ( r . by )": ".",
+            "if ( ( 1 ) + 2": "+ < )", "if ( b and 1": "+ <", "if ( b and 1 )": "", "if ( b and 1 + 2 )": "", "if ( b and 1 < 2 + n )": "and {", "if ( b and b and 1": "+ <", "if ( b and b and 1 + n": "+ <", "if ( b and p )": "", "if ( 1 < p )": "", "give ( 1 + p )": "", "give ( ( 1": "+ )", "give ( ( 1 ) ) + ( 2": "+ )", "if ( ( r ) . near )": ".", "if ( r . by )": ".",
         }
         for text, wanted in texts.items():
             if wanted:

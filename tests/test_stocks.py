@@ -5,7 +5,7 @@ import unittest
 
 import slow
 from endsahead.stocks import (
-    added, is_above, is_least_lot, is_met, joined, joins_of, least_of, stock_of, sums_of, taken, without,
+    added, is_above, is_least_lot, is_met, joined, joins_of, least_of, stock_of, sums_of, sums_within, taken, without,
 )
 from samples import odd_values
 
@@ -114,6 +114,21 @@ class Lots(unittest.TestCase):
             self.assertEqual(joins_of(tuple(lots)), wanted)
             both = added(DECLARATIONS, [one, other])
             self.assertEqual(added(DECLARATIONS, [taken(DECLARATIONS, both, other), other]), both)
+
+    def test_sums_within(self):
+        lots, both = [(K, L), (K, L)], (("k", 1), ("l", 1))
+        self.assertEqual([sums_within(DECLARATIONS, lots, stock) for stock in (KK, both, (("k", 2), ("l", 1)), K, ())], [(KK,), (both,), (both, KK), (), ()])
+        self.assertEqual([sums_within(DECLARATIONS, [], ()), sums_within(DECLARATIONS, [()], KK), sums_within(DECLARATIONS, [((),), (P,)], P)], [((),), (), (P,)])
+        for seed in range(200):
+            chance = random.Random(seed)
+            lots = [chance_lot(chance) for _ in range(chance.randint(0, 3))]
+            stock = chance_stock(chance, 5)
+            self.assertEqual(sums_within(DECLARATIONS, lots, stock), tuple(one for one in slow.sums(ONCE, lots) if slow.above(stock, one)))
+
+    def test_lots_of_very_many_members(self):
+        lot = tuple((("k", at), ("l", 900 - at)) for at in range(1, 900))
+        self.assertEqual(least_of([*lot, *lot[::-1]]), lot)
+        self.assertEqual(len(sums_of(DECLARATIONS, [lot[:90], (K, L)])), 91)
 
     def test_arguments_stay(self):
         stocks, lots = [KK, K, ()], [(K, L), (K,)]
