@@ -48,15 +48,15 @@ def _new_numbers(declarations, ex, scale, numbers):
 
 def block_stocks(declarations, kind):
     """Return the lot of the least stocks from which a block can be made that gives a kind."""
-    return _lots_of(declarations, least_stocks(declarations), kind)[-1]
+    return lots_of(declarations, least_stocks(declarations), kind)[-1]
 
 
 def rounds_many(declarations, kind):
     """Return how many rounds change something, until nothing does."""
-    return len(_lots_of(declarations, least_stocks(declarations), kind)) - 1
+    return len(lots_of(declarations, least_stocks(declarations), kind)) - 1
 
 
-def _lots_of(declarations, ex, kind):
+def lots_of(declarations, ex, kind):
     """Return the list of the lots of all rounds, up to the one behind which nothing changes."""
     lots = [ex[kind]]
     while len(lots) < 2 or lots[-1] != lots[-2]:
@@ -95,7 +95,11 @@ def _is_shape_from(declarations, kind, stock, thing):
 def plan_for(declarations, kind, stock):
     """Return a plan of a kind from a stock, None if there is none."""
     tables = tables_of(declarations)
-    lots = _lots_of(declarations, tables[-1], kind)
+    return plan_with(declarations, tables, lots_of(declarations, tables[-1], kind), kind, stock)
+
+
+def plan_with(declarations, tables, lots, kind, stock):
+    """Return a plan of a kind from a stock, None if there is none, with the tables and lots of all rounds."""
     for member in lots[-1]:
         if is_above(stock, member):
             return _plan_from(declarations, tables, lots, kind, member)

@@ -63,34 +63,59 @@ def _part_of(stand, kind):
 
 def _finishes(stand, ex):
     """Return the list of the finishes: alternatives of what is left behind the statement that has not ended."""
-    block, told = stand.blocks[-1], stand.statement
-    if block.gave:
+    if stand.blocks[-1].gave:
         return [()]
-    stock = added(stand.declarations, [stock_there(stand), _part_of(stand, block.part)])
-    if told is None or (told.kind is None and told.word == "let"):
-        return [(stock,)]
+    if is_free_to_end(stand):
+        return [(stock_to_spend(stand),)]
     found = []
-    for kind, spent in _ways_on(stand, ex, stock):
-        found.extend(_finishes_of(stand.declarations, told.word, kind, taken(stand.declarations, stock, spent)))
+    for way in ways_on(stand, ex):
+        found.extend(way[2])
     return found
 
 
-def _ways_on(stand, ex, stock):
-    """Return the tuples (kind at which the statement aims, stock that is spent by all that is still to come in it)."""
+def is_free_to_end(stand):
+    """Tell whether no statement has begun that has to spend something, or that aims at a kind that is told."""
+    told = stand.statement
+    return told is None or (told.kind is None and told.word == "let")
+
+
+def stock_to_spend(stand):
+    """Return the stock of the names that can stand in an E, with the part that a case is to have a name for."""
+    return added(stand.declarations, [stock_there(stand), _part_of(stand, stand.blocks[-1].part)])
+
+
+def aims_on(stand):
+    """Return the tuples (kind at which the statement may aim, kinds that are to come in it then)."""
     told = stand.statement
     if told.kind is not None:
-        lots = [ex[kind] for kind in kinds_awaited(stand)]
-        return [(told.kind, spent) for spent in sums_within(stand.declarations, lots, stock)]
+        return [(told.kind, kinds_awaited(stand))]
     kinds = [declared[1] for declared in stand.declarations if declared[0] == SORTS_OPENED[told.word]]
-    return [(kind, spent) for kind in kinds for spent in ex[kind] if is_above(stock, spent)]
+    return [(kind, (kind,)) for kind in kinds]
 
 
-def _finishes_of(declarations, word, kind, left):
-    """Return the alternatives behind a statement that aims at a kind, a stock being left behind its E."""
-    gains = steps_of(declarations).get((word, kind), [()])
-    behind = [added(declarations, [left, gain]) for gain in gains]
+def ways_on(stand, ex):
+    """Return the tuples (kind at which the statement aims, stock that its end spends, alternatives behind it)."""
+    stock = stock_to_spend(stand)
+    found = []
+    for kind, awaited in aims_on(stand):
+        gains = gains_of(stand, kind)
+        for spent in sums_within(stand.declarations, [ex[part] for part in awaited], stock):
+            left = taken(stand.declarations, stock, spent)
+            found.append((kind, spent, _alternatives_behind(stand, gains, left)))
+    return found
+
+
+def gains_of(stand, kind):
+    """Return the list of what the statement adds behind it, in each block of a match, if it aims at a kind."""
+    return steps_of(stand.declarations).get((stand.statement.word, kind), [()])
+
+
+def _alternatives_behind(stand, gains, left):
+    """Return the alternatives behind the statement, a stock being left behind its E."""
+    word = stand.statement.word
     if word == "give":
         return [()]
+    behind = [added(stand.declarations, [left, gain]) for gain in gains]
     return [(left,), _lot_of(behind)] if word == "match" else [(behind[0],)]
 
 

@@ -186,14 +186,14 @@ def _shape_made(declarations, tables, kind, member, known):
     for what, made, kinds in rules_of(declarations):
         members = None
         if made == kind:
-            members = _members_adding_up(declarations, [table[part] for part in kinds], member)
+            members = members_adding_up(declarations, [table[part] for part in kinds], member)
         if members is not None:
             shapes = [shape_of(declarations, tables, part, low, known) for part, low in zip(kinds, members)]
             return _shape_from(what, tuple(shapes))
     return None
 
 
-def _members_adding_up(declarations, lots, stock):
+def members_adding_up(declarations, lots, stock):
     """Return the tuple of a member of each lot, added just a stock, None if there is none."""
     sums = {(): ()}
     for lot in lots:

@@ -54,6 +54,14 @@ class Opened:
         self.has_and = operator == "and" or self.has_and
         self.waits = True
 
+    def twin(self):
+        """Return another one that stands where this one does."""
+        made = Opened(self.aim, self.in_brackets)
+        made.aim_of_sum, made.aim_of_operand = self.aim_of_sum, self.aim_of_operand
+        made.waits, made.kind = self.waits, self.kind
+        made.has_plus, made.has_less, made.has_and = self.has_plus, self.has_less, self.has_and
+        return made
+
 
 class Call:
     """A call or a record that has not ended: the kinds of its parts, and the kind that it makes."""
@@ -63,6 +71,12 @@ class Call:
         self.made = made
         # The index of the part that is being read, -1 ahead of the bracket.
         self.at = -1
+
+    def twin(self):
+        """Return another one that stands where this one does."""
+        made = Call(self.kinds, self.made)
+        made.at = self.at
+        return made
 
 
 class Block:
@@ -81,6 +95,13 @@ class Block:
         # The blocks of the same statement that have ended: of a match those of its cases, of an other the first one.
         self.closed = []
 
+    def twin(self):
+        """Return another one that stands where this one does; those that have ended are never changed again."""
+        made = Block(self.word, self.before)
+        made.gave, made.behind = self.gave, dict(self.behind)
+        made.part, made.arms, made.closed = self.part, self.arms, list(self.closed)
+        return made
+
 
 class Statement:
     """A statement that has begun, up to its `;`, or to the `{` behind its E."""
@@ -89,6 +110,12 @@ class Statement:
         self.word = word
         self.kind = None
         self.names = []
+
+    def twin(self):
+        """Return another one that stands where this one does."""
+        made = Statement(self.word)
+        made.kind, made.names = self.kind, list(self.names)
+        return made
 
 
 class Head:
@@ -99,6 +126,12 @@ class Head:
         self.name = None
         self.names = []
         self.kinds = []
+
+    def twin(self):
+        """Return another one that stands where this one does."""
+        made = Head(self.word)
+        made.name, made.names, made.kinds = self.name, list(self.names), list(self.kinds)
+        return made
 
 
 class Stand:
@@ -119,6 +152,18 @@ class Stand:
         self.statement = None
         # The E and calls that are open, the innermost last.
         self.nest = []
+
+    def twin(self):
+        """Return another one that stands where this one does."""
+        made = Stand()
+        made.steps, made.declarations, made.declared = list(self.steps), self.declarations, dict(self.declared)
+        made.names, made.spent = dict(self.names), dict(self.spent)
+        made.blocks = [block.twin() for block in self.blocks]
+        made.nest = [thing.twin() for thing in self.nest]
+        made.head = None if self.head is None else self.head.twin()
+        made.first_block = None if self.first_block is None else self.first_block.twin()
+        made.statement = None if self.statement is None else self.statement.twin()
+        return made
 
     def plan(self, steps):
         """Put steps ahead of all that are still to be taken."""
@@ -233,7 +278,7 @@ def take_behind(stand, word, _):
     tree = stand.nest[-1]
     if word == ".":
         stand.plan(("FIELD", "BEHIND"))
-        return bool(_fields_on(stand, tree))
+        return bool(fields_on(stand, tree))
     if word in OPERATORS:
         if not tree.fits(word):
             return False
@@ -255,7 +300,7 @@ def _can_end(stand, tree, kind):
     return kind == tree.aim
 
 
-def _fields_on(stand, tree):
+def fields_on(stand, tree):
     """Return the dict of those fields of the last operand of an E that lead to its aim, with their kinds."""
     fields = fields_of(stand.declarations, tree.kind)
     return {field: kind for field, kind in fields if leads(stand.declarations, kind, tree.aim_of_operand)}
@@ -264,7 +309,7 @@ def _fields_on(stand, tree):
 def take_field(stand, word, _):
     """Take the name of a field."""
     tree = stand.nest[-1]
-    fields = _fields_on(stand, tree)
+    fields = fields_on(stand, tree)
     tree.kind = fields.get(word)
     return word in fields
 

@@ -68,6 +68,12 @@ INTERFACE = {
         "kinds_to_come": "row",
     },
     "demands": {"demands": "row", "is_met": "row demand"},
+    # No part of the interface: tables that are kept.
+    "tables": {},
+    "ends": {"is_beginning": "row", "ending": "row"},
+    "nopapers": {"none_paper": "row", "is_none_paper": "row thing"},
+    "offers": {"first_dead": "row", "is_offered": "row word", "offers": "row"},
+    "lacks": {"widened": "row stock", "lacks": "row", "is_lack": "row stock"},
 }
 
 BUILTINS = (
@@ -169,7 +175,7 @@ class Form(unittest.TestCase):
                 for word in names_given(node):
                     self.assertNotIn(word, vars(builtins), (name, word))
                     self.assertNotIn(word, BARRED_NAMES + BARRED_WORDS, name)
-                    self.assertFalse(word.startswith("__") and word != "__init__", (name, word))
+                    self.assertFalse(word.startswith("__") and word not in ("__init__", "__eq__"), (name, word))
                 if isinstance(node, ast.Name) and isinstance(node.ctx, ast.Store):
                     self.assertNotIn(node.id, imported(tree), name)
 
@@ -189,8 +195,8 @@ class Form(unittest.TestCase):
                     made = isinstance(part, ast.Call) and isinstance(part.func, ast.Name) and part.func.id == "set"
                     if isinstance(part, (ast.Set, ast.SetComp)) or made:
                         counted = isinstance(node, ast.Call) and isinstance(node.func, ast.Name) and node.func.id in ("sorted", "len")
-                        # fresh_name keeps one to ask it for members alone.
-                        self.assertTrue(counted or name == "words", (name, part.lineno))
+                        # Two functions keep one to ask it for members alone.
+                        self.assertTrue(counted or name in ("words", "lacks"), (name, part.lineno))
 
     def test_lists_and_dicts_at_module_level_are_only_read(self):
         for name, tree in modules():
@@ -234,6 +240,14 @@ class Interface(unittest.TestCase):
                 if made is not None:
                     told = [one for one in inspect.signature(made).parameters if one != "self"]
                     self.assertEqual(told, parameters.split(), member)
+
+    def test_no_name_is_a_method_and_an_attribute_of_one_class(self):
+        for name, tree in modules():
+            for made in tree.body:
+                if isinstance(made, ast.ClassDef):
+                    methods = [one.name for one in made.body if isinstance(one, ast.FunctionDef)]
+                    stored = [one.attr for one in ast.walk(made) if isinstance(one, ast.Attribute) and isinstance(one.ctx, ast.Store)]
+                    self.assertEqual(set(methods) & set(stored), set(), (name, made.name))
 
 
 def imported(tree):
