@@ -17,8 +17,10 @@ def widened(row, stock):
     found = []
     for name, kind in zip(_names_new(row, len(kinds)), kinds):
         found.extend([",", name, ":", kind])
-    # Behind no parameters no comma comes.
-    return (*row[:close], *(found[1:] if row[close - 1] == "(" else found), *row[close:])
+    if row[close - 1] == "(":
+        # Behind no parameters no comma comes.
+        found = found[1:]
+    return (*row[:close], *found, *row[close:])
 
 
 def _end_of_parameters(row):
@@ -87,22 +89,19 @@ def _waits_for_more(stand):
 
 def _lacking_at_end(stand, ex, lot):
     """Return the least stocks with which a statement can be ended so that what is left is enough for the block."""
-    declarations = stand.declarations
     found = []
     for kind, awaited in aims_on(stand):
         lots = [ex[part] for part in awaited]
-        for needed in _needed_behind(stand, gains_of(stand, kind), lot):
-            found.extend(sums_of(declarations, [*lots, needed]))
+        found.extend(sums_of(stand.declarations, [*lots, _needed_behind(stand, kind, lot)]))
     return _rests(stand, found, stock_to_spend(stand))
 
 
-def _needed_behind(stand, gains, lot):
-    """Return the list of the lots of what a statement has to leave: one for each of its finishes."""
-    word = stand.statement.word
-    if word == "give":
-        return [((),)]
-    behind = joins_of([_rests(stand, lot, gain) for gain in gains])
-    return [lot, behind] if word == "match" else [behind]
+def _needed_behind(stand, kind, lot):
+    """Return the least stocks that a statement has to leave, if it aims at a kind."""
+    if stand.statement.word == "give":
+        return ((),)
+    # What is enough behind a match is enough in each of its blocks.
+    return joins_of([_rests(stand, lot, gain) for gain in gains_of(stand, kind)])
 
 
 def _lacking_inside(stand, ex):

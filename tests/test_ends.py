@@ -160,6 +160,20 @@ class Endings(unittest.TestCase):
                 alive += 1
         self.assertEqual(alive, 10)
 
+    def test_just_one_way_leaves_enough(self):
+        bare = "once a; once b; once c; plain p; plain q; given fa(a): p; given fb(b): p; given fc(c): p; "
+        for last, name in zip("abc", "xyz"):
+            head = bare + f"given end({last}): q; def g(x: a, y: b, z: c): q {{ "
+            for text in ["let u : p =", "let u : p", "let u : p = (", "if true { } let u : p = ( ("]:
+                row = cut(head + text)
+                words = self.ends(row)
+                self.assertNotIn(name, words[:words.index(";")])
+
+    def test_just_one_record_or_choice_leaves_enough(self):
+        bare = "once a; once c; plain q; record bad { k: c } record good { l: a } choice ill { m: c } choice well { n: a } given turn(a): c; given end(a): q; def g(x: a): q { "
+        for text, wanted in {"open": "good", "match": "well", "if true { open": "good", "if true { } else { match": "well"}.items():
+            self.assertEqual(self.ends(cut(bare + text))[0], wanted)
+
     def test_of_tight_programs(self):
         rows = 0
         for seed in range(45):

@@ -74,6 +74,23 @@ INTERFACE = {
     "nopapers": {"none_paper": "row", "is_none_paper": "row thing"},
     "offers": {"first_dead": "row", "is_offered": "row word", "offers": "row"},
     "lacks": {"widened": "row stock", "lacks": "row", "is_lack": "row stock"},
+    "values": {
+        "is_of_kind": "declarations kind thing", "are_fresh": "declarations values", "tokens_in": "declarations value",
+        "show_value": "declarations value",
+    },
+    "running": {
+        "run": "program name arguments world most", "handed_over": "declarations log value", "calls_of": "log name",
+    },
+    "kept": {"Kept": "row"},
+    "desk": {"Desk": ""},
+}
+CLASSES = {
+    "kept": {
+        "row": "", "put": "index words", "take": "index many", "undo": "", "write": "word", "finish": "", "dead": "",
+        "program": "", "lacks": "", "paper": "", "offers": "index", "instead": "index", "may_stand": "index word",
+        "twin": "",
+    },
+    "desk": {"execute": "line", "kept": "", "twin": ""},
 }
 
 BUILTINS = (
@@ -240,6 +257,15 @@ class Interface(unittest.TestCase):
                 if made is not None:
                     told = [one for one in inspect.signature(made).parameters if one != "self"]
                     self.assertEqual(told, parameters.split(), member)
+
+    def test_methods_are_defined_in_their_classes(self):
+        for name, members in CLASSES.items():
+            made = [node for node in tree_of(name + ".py").body if isinstance(node, ast.ClassDef)]
+            self.assertEqual([node.name for node in made], [name.capitalize()])
+            defined = {node.name: node for node in made[0].body if isinstance(node, ast.FunctionDef)}
+            for member, parameters in members.items():
+                told = [one.arg for one in defined[member].args.args]
+                self.assertEqual(told, ["self", *parameters.split()], member)
 
     def test_no_name_is_a_method_and_an_attribute_of_one_class(self):
         for name, tree in modules():

@@ -225,6 +225,10 @@ class TooManyMembers(unittest.TestCase):
         row = (*row_of(library_with(61)), *"def g ( s : q ) : q { give s ; }".split(), *"given all ( ) : k ; given most2 ( ) : q ; def e9 ( ) : q {".split())
         self.assertIs(first_dead((*row, "let", "u9", ":", "num", "=")), None)
         self.assertEqual(first_dead((*row, "let", "u9", ":", "num", "=", "=")), len(row) + 5)
+        # The words in the midst of the row stand in the function that has ended.
+        long = "let u9 : num = 0 " + "+ 0 " * 150 + ";"
+        row = (*row_of(library_with(61)), *f"def g ( s : q ) : q {{ {long} give s ; }}".split(), *"given all ( ) : k ; given most2 ( ) : q ; def e9 ( ) :".split())
+        self.assertEqual(first_dead((*row, *"a { let u9 : num = 1 ;".split())), len(row))
 
 
 if __name__ == "__main__":
